@@ -1,0 +1,1 @@
+"""Scanranges: what a filter costs in an index over several columns."""
