@@ -1,11 +1,22 @@
 """What the tests share: sets worked out value by value, and objects of every kind."""
 
+import unittest
 from itertools import product
 
 from scanranges.boxes import Box
+from scanranges.errors import ScanError
 from scanranges.valuesets import ValueSet
 
 HUGE = 10 ** 30
+
+
+class Base(unittest.TestCase):
+    """A test case that asks for an error of exactly one class."""
+
+    def exactly(self, error, call, *args, **more):
+        with self.assertRaises(ScanError) as caught:
+            call(*args, **more)
+        self.assertIs(type(caught.exception), error)
 
 
 def values_of(stretches):

@@ -2,20 +2,13 @@ import unittest
 from fractions import Fraction
 from itertools import product
 
-from brute import HUGE, all_value_lists, odd_objects, set_of, spread
+from brute import HUGE, Base, all_value_lists, odd_objects, set_of, spread
 from scanranges import boxes
 from scanranges.boxes import Box
-from scanranges.errors import EmptyBox, InvalidBox, OtherSizes, ScanError, TooMany
+from scanranges.errors import EmptyBox, InvalidBox, OtherSizes, TooMany
 from scanranges.valuesets import ValueSet
 
 EXAMPLE = [ValueSet(10, [(3, 3)]), ValueSet(7, [(0, 1), (5, 6)]), ValueSet(100, [(20, 49)])]
-
-
-class Base(unittest.TestCase):
-    def exactly(self, error, call, *args, **more):
-        with self.assertRaises(ScanError) as caught:
-            call(*args, **more)
-        self.assertIs(type(caught.exception), error)
 
 
 class Making(Base):

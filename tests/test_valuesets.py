@@ -1,17 +1,10 @@
 import unittest
 
-from brute import HUGE, all_value_lists, odd_objects, set_of, spread, stretches_of, values_of
+from brute import HUGE, Base, all_value_lists, odd_objects, set_of, spread, stretches_of, values_of
 from scanranges import valuesets
 from scanranges.boxes import Box
-from scanranges.errors import InvalidNumber, InvalidSet, OtherSizes, ScanError, TooMany
+from scanranges.errors import InvalidNumber, InvalidSet, OtherSizes, TooMany
 from scanranges.valuesets import ValueSet
-
-
-class Base(unittest.TestCase):
-    def exactly(self, error, call, *args, **more):
-        with self.assertRaises(ScanError) as caught:
-            call(*args, **more)
-        self.assertIs(type(caught.exception), error)
 
 
 class Making(Base):
