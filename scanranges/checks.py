@@ -1,4 +1,4 @@
-"""Whether any object is what the package takes: integers, sizes, stretches."""
+"""Whether any object is what the package takes: integers, sizes, stretches, orders, keys."""
 
 GREATEST_SIZE = 10 ** 30
 MOST_STRETCHES = 12
@@ -32,3 +32,26 @@ def _is_stretch(least, size, thing):
         return False
     first, last = thing
     return is_integer(first) and is_integer(last) and least <= first <= last < size
+
+
+def is_order(many, thing):
+    """Whether any object is an order of so many columns."""
+    if not isinstance(thing, list) or len(thing) != many:
+        return False
+    if not all([_is_place(place) for place in thing]):
+        return False
+    return sorted([column for column, _ in thing]) == list(range(many))
+
+
+def is_key(sizes, thing):
+    """Whether any object is a key of columns of these sizes."""
+    if not isinstance(thing, tuple) or len(thing) != len(sizes):
+        return False
+    return all([is_integer(value) and 0 <= value < size for value, size in zip(thing, sizes)])
+
+
+def _is_place(thing):
+    if not isinstance(thing, tuple) or len(thing) != 2:
+        return False
+    column, up = thing
+    return is_integer(column) and isinstance(up, bool)

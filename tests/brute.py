@@ -1,7 +1,7 @@
-"""What the tests share: sets worked out value by value, and objects of every kind."""
+"""What the tests share: sets, lines and ranges worked out one by one, and objects of every kind."""
 
 import unittest
-from itertools import product
+from itertools import permutations, product
 
 from scanranges.boxes import Box
 from scanranges.errors import ScanError
@@ -39,6 +39,86 @@ def set_of(size, values):
 
 def all_value_lists(size):
     return [[value for value in range(size) if bits[value]] for bits in product((0, 1), repeat=size)]
+
+
+def all_boxes(sizes):
+    columns = [[set_of(size, values) for values in all_value_lists(size)] for size in sizes]
+    return [Box(list(sets)) for sets in product(*columns)]
+
+
+def example():
+    """The box of the document's example."""
+    return Box([ValueSet(10, [(3, 3)]), ValueSet(7, [(0, 1), (5, 6)]), ValueSet(100, [(20, 49)])])
+
+
+def all_up(columns):
+    return [(column, True) for column in columns]
+
+
+def all_orders(many):
+    """Each list of columns with all directions."""
+    directions = list(product((True, False), repeat=many))
+    return [list(zip(columns, ups)) for columns in permutations(range(many)) for ups in directions]
+
+
+def line_of(sizes, order):
+    """All keys, one after the other along the line."""
+    runs = [range(sizes[column]) if up else range(sizes[column] - 1, -1, -1) for column, up in order]
+    found = []
+    for values in product(*runs):
+        key = [None] * len(sizes)
+        for (column, _), value in zip(order, values):
+            key[column] = value
+        found.append(tuple(key))
+    return found
+
+
+def ranges_on(line, box):
+    """The ranges of a box as lists of keys, found key by key."""
+    found = []
+    before = False
+    for key in line:
+        inside = key in box
+        if inside and not before:
+            found.append([])
+        if inside:
+            found[-1].append(key)
+        before = inside
+    return found
+
+
+def counts_of(box):
+    """For each list of columns how many ranges the box has, by R1."""
+    sets = [(one.total, len(one.stretches), one.wraps) for one in box.sets]
+    found = {}
+
+    def go_on(columns, many, joined):
+        if len(columns) == len(sets):
+            found[columns] = many
+        for column, (total, stretches, wraps) in enumerate(sets):
+            if column not in columns:
+                go_on((column,) + columns, total * many - (total - stretches) * joined, joined if wraps else 0)
+
+    go_on((), 1, 1)
+    return {columns: many if box.total else 0 for columns, many in found.items()}
+
+
+def best_lists(box):
+    """The lists of columns with the fewest ranges, ascending."""
+    counts = counts_of(box)
+    fewest = min(counts.values())
+    return sorted([columns for columns in counts if counts[columns] == fewest])
+
+
+class Chooser:
+    """Chooses again and again, always in the same way, so that a test can take some of very many."""
+
+    def __init__(self, start):
+        self.state = start
+
+    def one(self, options):
+        self.state = (self.state * 6364136223846793005 + 1442695040888963407) & ((1 << 64) - 1)
+        return options[(self.state >> 33) % len(options)]
 
 
 def spread(many, start=0, step=2):
