@@ -1,10 +1,9 @@
 """Boxes: a set for each column, and the keys with a value of the set in each."""
 
 from math import gcd
+from scanranges.checks import MOST_COLUMNS
 from scanranges.errors import EmptyBox, InvalidBox, OtherSizes
 from scanranges.valuesets import ValueSet
-
-MOST_COLUMNS = 8
 
 
 class Box:

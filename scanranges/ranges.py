@@ -2,6 +2,7 @@
 
 from scanranges.checks import is_integer, is_key, is_order
 from scanranges.errors import InvalidKey, InvalidNumber, InvalidOrder
+from scanranges.lines import line_key, line_values
 
 
 def range_count(box, order):
@@ -39,7 +40,7 @@ def nth_range(box, order, index):
         first.append(value)
         value, end = _end(stretches, many, joined, end)
         last.append(value)
-    return (_key_on_line(box, order, first), _key_on_line(box, order, last))
+    return (line_key(box.sizes, order, first), line_key(box.sizes, order, last))
 
 
 def range_of(box, order, key):
@@ -50,7 +51,7 @@ def range_of(box, order, key):
     if key not in box:
         return None
     index = 0
-    values = _line_values(box, order, key)
+    values = line_values(box.sizes, order, key)
     for stretches, (many, joined), value in zip(_line_stretches(box, order), _behind(steps), values):
         index += _ranges_before(stretches, many, joined, value)
     return index
@@ -64,19 +65,6 @@ def _behind(steps):
 def _line_stretches(box, order):
     sets = box.sets
     return [sets[column].stretches if up else sets[column].turned().stretches for column, up in order]
-
-
-def _line_values(box, order, key):
-    sizes = box.sizes
-    return [key[column] if up else sizes[column] - 1 - key[column] for column, up in order]
-
-
-def _key_on_line(box, order, values):
-    sizes = box.sizes
-    key = [0] * len(sizes)
-    for (column, up), value in zip(order, values):
-        key[column] = value if up else sizes[column] - 1 - value
-    return tuple(key)
 
 
 # Behind each value of a column there are `many` ranges of the columns behind it. If `joined` is 1, the last one of a

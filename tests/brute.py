@@ -1,9 +1,10 @@
-"""What the tests share: sets, lines and ranges worked out one by one, and objects of every kind."""
+"""What the tests share: sets, lines, ranges and filters worked out one by one, and objects of every kind."""
 
 import unittest
 from itertools import permutations, product
 
 from scanranges.boxes import Box
+from scanranges.diagrams import Diagram
 from scanranges.errors import ScanError
 from scanranges.valuesets import ValueSet
 
@@ -73,6 +74,22 @@ def line_of(sizes, order):
     return found
 
 
+def position(sizes, order, key):
+    """How many keys stand before a key on the line."""
+    found = 0
+    for column, up in order:
+        found = found * sizes[column] + (key[column] if up else sizes[column] - 1 - key[column])
+    return found
+
+
+def key_at(sizes, order, place):
+    key = [None] * len(sizes)
+    for column, up in reversed(order):
+        place, value = divmod(place, sizes[column])
+        key[column] = value if up else sizes[column] - 1 - value
+    return tuple(key)
+
+
 def ranges_on(line, box):
     """The ranges of a box as lists of keys, found key by key."""
     found = []
@@ -85,6 +102,46 @@ def ranges_on(line, box):
             found[-1].append(key)
         before = inside
     return found
+
+
+def holds(condition, key):
+    """Whether a condition lets a key through, straight from what its words say."""
+    if condition[0] == "in":
+        return any([first <= key[condition[1]] <= last for first, last in condition[2]])
+    if condition[0] == "not":
+        return not holds(condition[1], key)
+    if condition[0] == "and":
+        return holds(condition[1], key) and holds(condition[2], key)
+    return holds(condition[1], key) or holds(condition[2], key)
+
+
+def kept_on(line, condition):
+    """The keys of a line that a condition lets through."""
+    return [key for key in line if holds(condition, key)]
+
+
+def runs_on(line, kept):
+    """The ranges of some keys as lists of keys, found key by key."""
+    inside = {key: True for key in kept}
+    return ranges_on(line, inside)
+
+
+def rank(wish, key):
+    """What comes first by a wish has the lesser one."""
+    return [key[column] if up else -key[column] for column, up in wish]
+
+
+def turned(order):
+    return [(column, not up) for column, up in order]
+
+
+def condition_of(box):
+    """The condition that lets the keys of a box through."""
+    parts = [("in", column, one.stretches) for column, one in enumerate(box.sets)]
+    whole = parts[0]
+    for part in parts[1:]:
+        whole = ("and", whole, part)
+    return whole
 
 
 def counts_of(box):
@@ -126,6 +183,87 @@ def spread(many, start=0, step=2):
     return [(start + step * at, start + step * at) for at in range(many)]
 
 
+def great_boxes():
+    """Boxes of up to eight columns with up to 10 ** 30 values, none of them empty."""
+    single, full = ValueSet(HUGE, [(77, 77)]), ValueSet(HUGE, [(0, HUGE - 1)])
+    many = ValueSet(HUGE, spread(12, 5, 10 ** 28))
+    ends = ValueSet(HUGE, [(0, 10 ** 20), (10 ** 25, 10 ** 25 + 3), (HUGE - 9, HUGE - 1)])
+    first, last = ValueSet(HUGE, [(0, 10 ** 12)]), ValueSet(HUGE, [(10 ** 29, HUGE - 1)])
+    idle, week = ValueSet(1, [(0, 0)]), ValueSet(7, [(0, 1), (5, 6)])
+    rows = [
+        [single], [full], [many], [ends], [idle], [ends, full], [full, ends], [week, ends, week], [many, idle, ends],
+        [first, last, ends, many], [full, idle, ends, week, ends], [ends] * 8, [full] * 8, [many] * 8,
+        [single, full, many, ends, first, last, idle, week], [week, ends, full, idle, ends, week, ends, full],
+        [first, ends, week, full, ends, idle, week, ends], [ValueSet(HUGE, [(0, 0), (HUGE - 1, HUGE - 1)])] * 8,
+    ]
+    return [Box(sets) for sets in rows]
+
+
+def some_orders(many):
+    columns = list(range(many))
+    return [
+        all_up(columns), [(column, False) for column in reversed(columns)],
+        [(column, column % 2 == 0) for column in columns[1:] + columns[:1]],
+        [(column, column % 3 == 1) for column in columns[many // 2:] + columns[:many // 2][::-1]],
+    ]
+
+
+def some_condition(choose, sizes, sets):
+    """A condition with so many conditions of the first kind, always the same ones from the same chooser."""
+    if choose.one((True, False, False, False)):
+        return ("not", some_condition(choose, sizes, sets))
+    if sets == 1:
+        column = choose.one(range(len(sizes)))
+        return ("in", column, some_stretches(choose, sizes[column]))
+    front = choose.one(range(1, sets))
+    word = choose.one(("and", "or"))
+    return (word, some_condition(choose, sizes, front), some_condition(choose, sizes, sets - front))
+
+
+def some_stretches(choose, size):
+    """Stretches of a column: of a small one any, of a great one a few between round and odd values."""
+    if size <= 12:
+        return stretches_of([value for value in range(size) if choose.one((True, False))])
+    places = [0, 1, 5, 999, 10 ** 6, 10 ** 9 + 7, size // 3, size // 2, size // 2 + 1, size - 2, size - 1]
+    places = sorted([place for place in set(places) if 0 <= place < size])
+    found = []
+    for place in places:
+        if choose.one((True, False)) and (not found or found[-1][1] + 1 < place):
+            last = place + choose.one((0, 0, 1, 2, size // 50))
+            found.append((place, min(last, size - 1)))
+    return [one for at, one in enumerate(found) if at == len(found) - 1 or one[1] + 1 < found[at + 1][0]]
+
+
+def some_order(choose, many):
+    columns = list(range(many))
+    found = []
+    while columns:
+        column = choose.one(columns)
+        columns.remove(column)
+        found.append((column, choose.one((True, False))))
+    return found
+
+
+def some_keys(choose, line, most):
+    """Up to so many keys of a line, each once, in any order."""
+    rest = list(line)
+    found = []
+    for _ in range(min(choose.one(range(most + 1)), len(rest))):
+        key = choose.one(rest)
+        rest.remove(key)
+        found.append(key)
+    return found
+
+
+def some_wish(choose, order):
+    """A wish that often has something to do with an order."""
+    many = len(order)
+    found = list(order[:choose.one(range(many + 1))]) if choose.one((True, False)) else []
+    for _ in range(choose.one(range(4))):
+        found.insert(choose.one(range(len(found) + 1)), (choose.one(range(many)), choose.one((True, False))))
+    return turned(found) if choose.one((True, False, False)) else found
+
+
 def nested(depth):
     thing = 1
     for _ in range(depth):
@@ -144,4 +282,6 @@ def odd_objects():
         {}, {"size": 3}, {"first": 0, "last": 1}, {"a": [{"b": ()}]},
         valueset, (valueset,), Box([valueset]), [Box([valueset])], {"a": valueset},
         nested(25), [0] * 3999,
+        Diagram([3], [(0, True)], ("in", 0, [])), [Diagram([3], [(0, True)], ("in", 0, []))],
+        ("in", 0, []), ("not", 1), ["in", 0, []], ("and",), ("or", None, ()),
     ]

@@ -34,8 +34,9 @@ class Language(unittest.TestCase):
 
     def test_there_are_files(self):
         names = [path.name for path in files()]
-        for name in ("__init__.py", "errors.py", "valuesets.py", "boxes.py", "ranges.py", "orders.py", "common.py"):
-            self.assertIn(name, names)
+        for name in ("__init__", "errors", "valuesets", "boxes", "ranges", "orders", "common", "gaps", "diagrams",
+                     "tables"):
+            self.assertIn(f"{name}.py", names)
         others = [path for path in PACKAGE.rglob("*") if path.is_file() and path.suffix not in (".py", ".pyc")]
         self.assertEqual(others, [])
 

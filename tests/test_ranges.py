@@ -1,54 +1,13 @@
 import unittest
 from itertools import permutations, product
 
-from brute import (HUGE, Base, Chooser, all_boxes, all_orders, all_up, example, line_of, odd_objects, ranges_on, set_of,
-                   spread)
+from brute import (HUGE, Base, Chooser, all_boxes, all_orders, all_up, example, great_boxes, key_at, line_of,
+                   odd_objects, position, ranges_on, set_of, some_orders, spread)
 from scanranges import ranges
 from scanranges.boxes import Box
 from scanranges.errors import InvalidKey, InvalidNumber, InvalidOrder
 from scanranges.ranges import nth_range, range_count, range_of, range_steps
 from scanranges.valuesets import ValueSet
-
-
-def position(sizes, order, key):
-    """How many keys stand before a key on the line."""
-    found = 0
-    for column, up in order:
-        found = found * sizes[column] + (key[column] if up else sizes[column] - 1 - key[column])
-    return found
-
-
-def key_at(sizes, order, place):
-    key = [None] * len(sizes)
-    for column, up in reversed(order):
-        place, value = divmod(place, sizes[column])
-        key[column] = value if up else sizes[column] - 1 - value
-    return tuple(key)
-
-
-def great_boxes():
-    """Boxes of up to eight columns with up to 10 ** 30 values, none of them empty."""
-    single, full = ValueSet(HUGE, [(77, 77)]), ValueSet(HUGE, [(0, HUGE - 1)])
-    many = ValueSet(HUGE, spread(12, 5, 10 ** 28))
-    ends = ValueSet(HUGE, [(0, 10 ** 20), (10 ** 25, 10 ** 25 + 3), (HUGE - 9, HUGE - 1)])
-    first, last = ValueSet(HUGE, [(0, 10 ** 12)]), ValueSet(HUGE, [(10 ** 29, HUGE - 1)])
-    idle, week = ValueSet(1, [(0, 0)]), ValueSet(7, [(0, 1), (5, 6)])
-    rows = [
-        [single], [full], [many], [ends], [idle], [ends, full], [full, ends], [week, ends, week], [many, idle, ends],
-        [first, last, ends, many], [full, idle, ends, week, ends], [ends] * 8, [full] * 8, [many] * 8,
-        [single, full, many, ends, first, last, idle, week], [week, ends, full, idle, ends, week, ends, full],
-        [first, ends, week, full, ends, idle, week, ends], [ValueSet(HUGE, [(0, 0), (HUGE - 1, HUGE - 1)])] * 8,
-    ]
-    return [Box(sets) for sets in rows]
-
-
-def some_orders(many):
-    columns = list(range(many))
-    return [
-        all_up(columns), [(column, False) for column in reversed(columns)],
-        [(column, column % 2 == 0) for column in columns[1:] + columns[:1]],
-        [(column, column % 3 == 1) for column in columns[many // 2:] + columns[:many // 2][::-1]],
-    ]
 
 
 class KeyByKey(Base):
