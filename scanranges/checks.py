@@ -1,4 +1,4 @@
-"""Whether any object is what the package takes: integers, sizes, stretches, orders, keys, conditions."""
+"""Whether any object is what the package takes: integers, sizes, stretches, orders, keys, conditions, wishes."""
 
 GREATEST_SIZE = 10 ** 30
 MOST_COLUMNS = 8

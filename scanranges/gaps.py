@@ -1,14 +1,13 @@
 """The gaps between the ranges of a box, and what it costs to read over some of them."""
 
-from scanranges.checks import is_integer, is_order
-from scanranges.errors import InvalidNumber, InvalidOrder
+from scanranges.checks import is_integer
+from scanranges.errors import InvalidNumber
+from scanranges.ranges import range_count
 
 
 def gap_lengths(box, order):
     """The ascending list of the tuples (length, how many gaps have it)."""
-    if not is_order(len(box.sets), order):
-        raise InvalidOrder("an order is a list of tuples (column, up) with each column of the box once")
-    if box.total == 0:
+    if range_count(box, order) == 0:
         return []
     sets = box.sets
     gaps, width, beside = {}, 1, 0

@@ -19,6 +19,6 @@ def along_line(sizes, order, keys):
     return [key for _, key in sorted([(line_values(sizes, order, key), key) for key in keys])]
 
 
-def turned_order(order):
-    """The order with all directions turned: its line is the same one from the other end."""
-    return [(column, not up) for column, up in order]
+def turned_places(places):
+    """An order or a wish with all directions turned: it tells the same from the other end."""
+    return [(column, not up) for column, up in places]

@@ -1,14 +1,16 @@
 """What the tests share: sets, lines, ranges and filters worked out one by one, and objects of every kind."""
 
 import unittest
-from itertools import permutations, product
+from itertools import combinations, permutations, product
 
 from scanranges.boxes import Box
 from scanranges.diagrams import Diagram
 from scanranges.errors import ScanError
+from scanranges.stores import Store
 from scanranges.valuesets import ValueSet
 
 HUGE = 10 ** 30
+ONE = ("in", 0, [(3, 3)])
 
 
 class Base(unittest.TestCase):
@@ -142,6 +144,54 @@ def condition_of(box):
     for part in parts[1:]:
         whole = ("and", whole, part)
     return whole
+
+
+def deep(levels):
+    """A condition so many levels deep, by `not` alone."""
+    found = ONE
+    for _ in range(levels - 1):
+        found = ("not", found)
+    return found
+
+
+def wide(sets, word="and"):
+    """A condition with so many conditions of the first kind, one level deeper for each."""
+    found = ONE
+    for _ in range(sets - 1):
+        found = (word, ONE, found)
+    return found
+
+
+def needed_on(line, keys, kept):
+    """R3: each key of the table, and the end, for which a key of the filter lies behind the key before, up to it."""
+    found = []
+    waiting = False
+    for key in line:
+        waiting = waiting or key in kept
+        if key in keys:
+            if waiting:
+                found.append(key)
+            waiting = False
+    return found + [None] if waiting else found
+
+
+def side_of(kept, wish):
+    """What is_sorted says, from all pairs of keys, which stand in the order of the line."""
+    pairs = [(rank(wish, first), rank(wish, second)) for first, second in combinations(kept, 2)]
+    if all([first <= second for first, second in pairs]):
+        return "forwards"
+    return "backwards" if all([first >= second for first, second in pairs]) else None
+
+
+def gaps_on(line, box):
+    """The lengths of the gaps in the order of the line, found key by key."""
+    places = {key: place for place, key in enumerate(line)}
+    found = ranges_on(line, box)
+    return [places[after[0]] - places[before[-1]] - 1 for before, after in zip(found, found[1:])]
+
+
+def counted(lengths):
+    return [(length, lengths.count(length)) for length in sorted(set(lengths))]
 
 
 def counts_of(box):
@@ -282,6 +332,6 @@ def odd_objects():
         {}, {"size": 3}, {"first": 0, "last": 1}, {"a": [{"b": ()}]},
         valueset, (valueset,), Box([valueset]), [Box([valueset])], {"a": valueset},
         nested(25), [0] * 3999,
-        Diagram([3], [(0, True)], ("in", 0, [])), [Diagram([3], [(0, True)], ("in", 0, []))],
-        ("in", 0, []), ("not", 1), ["in", 0, []], ("and",), ("or", None, ()),
+        Diagram([3], [(0, True)], ("in", 0, [])), [Diagram([3], [(0, True)], ("in", 0, []))], Store([3], [[(0, True)]]),
+        (Store([3], [[(0, True)]]),), ("in", 0, []), ("not", 1), ["in", 0, []], ("and",), ("or", None, ()),
     ]

@@ -2,7 +2,7 @@
 
 import unittest
 
-from brute import HUGE, Base, all_up, example, nested, odd_objects, spread
+from brute import HUGE, ONE, Base, all_up, deep, example, nested, odd_objects, spread, wide
 from scanranges.boxes import Box
 from scanranges.diagrams import Diagram
 from scanranges.errors import InvalidCondition, InvalidOrder, InvalidSizes
@@ -10,23 +10,6 @@ from scanranges.valuesets import ValueSet
 
 SIZES = [10, 7, 100]
 ORDER = all_up([0, 1, 2])
-ONE = ("in", 0, [(3, 3)])
-
-
-def deep(levels):
-    """A condition so many levels deep, by `not` alone."""
-    found = ONE
-    for _ in range(levels - 1):
-        found = ("not", found)
-    return found
-
-
-def wide(sets, word="and"):
-    """A condition with so many conditions of the first kind, one level deeper for each."""
-    found = ONE
-    for _ in range(sets - 1):
-        found = (word, ONE, found)
-    return found
 
 
 def balanced(levels):
@@ -76,13 +59,15 @@ class Conditions(Base):
             ["not", ONE], ("not", ["in", 0, [(3, 3)]]), ["and", ONE, ONE], ("and", ONE, ["in", 0, [(3, 3)]]),
             ("and", ["not", ONE], ONE), ["or", ONE, ONE], ("or", ["in", 0, []], ONE), ("in", [0], [(3, 3)]),
             ("in", (0,), [(3, 3)]), ("and", [ONE, ONE]), ("not", [ONE]), [ONE], ("in", 0, {}), ("in", 0, {3: 3}),
-            ("in", 0, "3"), ("in", 0, None), ("in", 0, 3), ("in", 0, True), {"in": 0}, ("in", 0, ValueSet(10, [(3, 3)])),
+            ("in", 0, "3"), ("in", 0, None), ("in", 0, 3), ("in", 0, True), {"in": 0},
+            ("in", 0, ValueSet(10, [(3, 3)])),
         ]
         for condition in rows:
             self.refused(condition)
 
     def test_booleans_in_the_place_of_integers(self):
-        for condition in (("in", False, [(3, 3)]), ("in", True, [(3, 3)]), ("in", 0, [(False, 3)]), ("in", 0, [(0, True)]),
+        for condition in (("in", False, [(3, 3)]), ("in", True, [(3, 3)]), ("in", 0, [(False, 3)]),
+                          ("in", 0, [(0, True)]),
                           ("in", 0, [(True, True)]), ("in", 0, [(0, 0), (2, True)]), (True, 0, [(3, 3)])):
             self.refused(condition)
             self.refused(("not", condition))

@@ -1,8 +1,8 @@
 import unittest
 from itertools import product
 
-from brute import (HUGE, Base, all_boxes, all_orders, all_up, example, great_boxes, line_of, odd_objects, position,
-                   ranges_on, some_orders, spread)
+from brute import (HUGE, Base, all_boxes, all_orders, all_up, counted, example, gaps_on, great_boxes, line_of,
+                   odd_objects, position, some_orders, spread)
 from scanranges import gaps
 from scanranges.boxes import Box
 from scanranges.errors import InvalidNumber, InvalidOrder
@@ -11,17 +11,6 @@ from scanranges.ranges import nth_range, range_count
 from scanranges.valuesets import ValueSet
 
 SIXTY = 10 ** 60 - 1
-
-
-def gaps_on(line, box):
-    """The lengths of the gaps in the order of the line, found key by key."""
-    places = {key: place for place, key in enumerate(line)}
-    found = ranges_on(line, box)
-    return [places[after[0]] - places[before[-1]] - 1 for before, after in zip(found, found[1:])]
-
-
-def counted(lengths):
-    return [(length, lengths.count(length)) for length in sorted(set(lengths))]
 
 
 def ways_on(lengths):

@@ -1,6 +1,7 @@
 """The rules for the package's text that a reader of its syntax tree can see."""
 
 import ast
+import builtins
 import unittest
 from pathlib import Path
 
@@ -18,7 +19,19 @@ BARRED_CALLS = {
     "round", "filter", "slice", "object", "float", "complex", "bytearray", "memoryview", "chr", "bytes", "callable",
     "delattr", "help", "hex", "bin", "oct", "ascii", "breakpoint", "issubclass",
 }
-BARRED_NODES = (ast.AsyncFunctionDef, ast.Await, ast.AsyncFor, ast.AsyncWith, ast.Div, ast.MatMult)
+BARRED_NODES = (ast.AsyncFunctionDef, ast.Await, ast.AsyncFor, ast.AsyncWith, ast.Div, ast.MatMult, ast.GeneratorExp,
+                ast.Global, ast.NamedExpr)
+# Names that no variable, function, class, parameter or method has.
+BARRED_NAMES = {
+    "mro", "elements", "open", "input", "law", "version_info", "with_traceback", "add_note", "register", "attrgetter",
+    "breakpoint", "builtins", "compile", "copyright", "credits", "delattr", "dir", "eval", "exec", "exit", "gc",
+    "globals", "help", "id", "importlib", "license", "locals", "methodcaller", "os", "quit", "super", "vars", "sys",
+}
+VALUE_METHODS = set("""append clear copy count endswith extend find get index insert isalnum isalpha isdigit islower
+isspace isupper items join keys ljust lower lstrip partition pop remove replace reverse rfind rjust rpartition rsplit
+rstrip setdefault split splitlines startswith strip update upper values zfill bit_length""".split())
+BARRED_ATTRIBUTES = {"items", "keys", "values", "pop", "update", "append", "clear", "extend", "insert", "remove",
+                     "reverse", "setdefault", "sort", "args", "encode", "decode", "hex", "fromhex", "format"}
 
 
 def files():
@@ -35,7 +48,7 @@ class Language(unittest.TestCase):
     def test_there_are_files(self):
         names = [path.name for path in files()]
         for name in ("__init__", "errors", "valuesets", "boxes", "ranges", "orders", "common", "gaps", "diagrams",
-                     "tables"):
+                     "tables", "sorting", "stores", "texts", "session"):
             self.assertIn(f"{name}.py", names)
         others = [path for path in PACKAGE.rglob("*") if path.is_file() and path.suffix not in (".py", ".pyc")]
         self.assertEqual(others, [])
@@ -99,6 +112,88 @@ class Language(unittest.TestCase):
             for one in node.decorator_list:
                 self.assertIsInstance(one, (ast.Name, ast.Attribute), place)
                 self.assertIn(one.id if isinstance(one, ast.Name) else one.attr, DECORATORS | {"setter"}, place)
+
+    def test_no_two_files_import_from_each_other(self):
+        told = {}
+        for path in files():
+            nodes = [node for node in ast.walk(ast.parse(path.read_text())) if isinstance(node, ast.ImportFrom)]
+            told[f"scanranges.{path.stem}"] = [node.module for node in nodes if node.module.startswith("scanranges.")]
+        left = dict(told)
+        while left:
+            free = [name for name, wanted in left.items() if not any([one in left for one in wanted])]
+            self.assertTrue(free, sorted(left))
+            for name in free:
+                del left[name]
+
+    def test_each_import_is_used_and_each_name_is_known(self):
+        for path in files():
+            tree = ast.parse(path.read_text())
+            imported = [alias.name for node in ast.walk(tree) if isinstance(node,
+                                                                            ast.ImportFrom) for alias in node.names]
+            names = [node for node in ast.walk(tree) if isinstance(node, ast.Name)]
+            read = {node.id for node in names if isinstance(node.ctx, ast.Load)}
+            self.assertLessEqual(set(imported), read, path.name)
+            known = self.bound(tree) | set(imported) | set(dir(builtins))
+            self.assertLessEqual(read, known, path.name)
+
+    def bound(self, tree):
+        found = set()
+        for node in ast.walk(tree):
+            if isinstance(node, ast.Name) and isinstance(node.ctx, ast.Store):
+                found.add(node.id)
+            elif isinstance(node, (ast.FunctionDef, ast.ClassDef)):
+                found.add(node.name)
+            elif isinstance(node, ast.arg):
+                found.add(node.arg)
+            elif isinstance(node, ast.ExceptHandler) and node.name:
+                found.add(node.name)
+        return found
+
+    def test_names(self):
+        for path in files():
+            tree = ast.parse(path.read_text())
+            imported = {alias.name for node in ast.walk(tree) if isinstance(node,
+                                                                            ast.ImportFrom) for alias in node.names}
+            methods = {one.name for node in ast.walk(tree) if isinstance(node, ast.ClassDef) for one in node.body
+                       if isinstance(one, ast.FunctionDef)}
+            found = self.bound(tree)
+            for name in found:
+                self.assertTrue(name.isascii() and name not in BARRED_NAMES, (path.name, name))
+                self.assertFalse(name.startswith("__") and name not in methods, (path.name, name))
+            self.assertFalse((found - methods) & (imported | set(dir(builtins))), path.name)
+
+    def test_classes(self):
+        for place, node in self.each_node(ast.ClassDef):
+            self.assertTrue(node.name[0].isalpha(), place)
+            self.assertLessEqual(len(node.bases), 1, place)
+
+    def test_module_level(self):
+        for path in files():
+            for node in ast.parse(path.read_text()).body:
+                docstring = isinstance(node, ast.Expr) and isinstance(node.value, ast.Constant)
+                plain = isinstance(node, ast.Assign) and len(node.targets) == 1 and isinstance(node.targets[0],
+                                                                                               ast.Name)
+                self.assertTrue(docstring or plain or isinstance(node, (ast.ImportFrom, ast.FunctionDef, ast.ClassDef)),
+                                (path.name, node.lineno))
+                if plain:
+                    self.assertFalse([one for one in ast.walk(node) if isinstance(one, ast.Call)], path.name)
+
+    def test_methods_and_attributes(self):
+        own = set()
+        for _, node in self.each_node(ast.ClassDef):
+            own.update([one.name for one in node.body if isinstance(one, ast.FunctionDef)])
+        for place, node in self.each_node(ast.Call):
+            if isinstance(node.func, ast.Attribute):
+                self.assertIn(node.func.attr, VALUE_METHODS | own | {"__init__"}, place)
+        for place, node in self.each_node(ast.Attribute):
+            if isinstance(node.ctx, ast.Store):
+                self.assertNotIn(node.attr, BARRED_ATTRIBUTES | own, place)
+
+    def test_sets_are_not_stored(self):
+        for place, node in self.each_node(ast.Assign):
+            self.assertNotIsInstance(node.value, (ast.Set, ast.SetComp), place)
+            if isinstance(node.value, ast.Call) and isinstance(node.value.func, ast.Name):
+                self.assertNotEqual(node.value.func.id, "set", place)
 
     def test_caught_errors_are_named(self):
         for place, node in self.each_node(ast.ExceptHandler):

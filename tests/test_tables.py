@@ -1,7 +1,7 @@
 import unittest
 from itertools import product
 
-from brute import (HUGE, Base, Chooser, all_orders, all_up, condition_of, example, holds, kept_on, line_of,
+from brute import (HUGE, Base, Chooser, all_orders, all_up, condition_of, example, holds, kept_on, line_of, needed_on,
                    odd_objects, position, runs_on, some_condition, some_keys, some_order, spread)
 from scanranges import tables
 from scanranges.diagrams import Diagram
@@ -37,19 +37,6 @@ def answer_to(line, keys, asked):
     return line[behind[0]] if behind else None
 
 
-def needed_by_hand(line, keys, kept):
-    """R3: each key of the table, and the end, for which a key of the filter lies behind the key before, up to it."""
-    found = []
-    waiting = False
-    for key in line:
-        waiting = waiting or key in kept
-        if key in keys:
-            if waiting:
-                found.append(key)
-            waiting = False
-    return found + [None] if waiting else found
-
-
 def cheapest_way(line, keys, needed, price):
     """The least cost over all ways: at each needed answer either a question, or steps from the answer before."""
     rows = [key for key in line if key in keys] + [None]
@@ -72,7 +59,7 @@ class AgainstTheDefinition(Base):
             kept = kept_on(line, condition)
             told = (diagram.sizes, diagram.order, condition, keys)
             self.assertEqual(matches(diagram, keys), [key for key in kept if key in keys], told)
-            self.assertEqual(needed_answers(diagram, keys), needed_by_hand(line, keys, kept), told)
+            self.assertEqual(needed_answers(diagram, keys), needed_on(line, keys, kept), told)
 
     def test_questions(self):
         for diagram, condition, line, keys in chosen(2, 700):
@@ -140,7 +127,8 @@ class AgainstTheDefinition(Base):
 
     def test_kinds_of_values(self):
         diagram = example_diagram()
-        for found in (matches(diagram, TABLE), needed_answers(diagram, TABLE), first_answers(diagram, TABLE, (0, 0, 0), 2),
+        for found in (matches(diagram, TABLE), needed_answers(diagram, TABLE),
+                      first_answers(diagram, TABLE, (0, 0, 0), 2),
                       worst_table(diagram)):
             self.assertIs(type(found), list)
             self.assertTrue(all([one is None or type(one) is tuple for one in found]))
@@ -326,7 +314,7 @@ class WorstTables(Base):
 class LeastCosts(Base):
     def test_all_ways(self):
         for diagram, condition, line, keys in chosen(9, 500, 8):
-            needed = needed_by_hand(line, keys, kept_on(line, condition))
+            needed = needed_on(line, keys, kept_on(line, condition))
             for price in (0, 1, 2, 3, 5, 100, SIXTY):
                 self.assertEqual(least_cost(diagram, keys, price), cheapest_way(line, keys, needed, price))
 
@@ -359,7 +347,7 @@ class FirstAnswers(Base):
     def expected(self, line, condition, keys, key, many):
         """By the words: the needed answers of the filter without the keys before, up to the last wanted match."""
         kept = kept_on(line[line.index(key):], condition)
-        needed = needed_by_hand(line, keys, kept)
+        needed = needed_on(line, keys, kept)
         found = [row for row in line if row in keys and row in kept]
         if many == 0:
             return []
@@ -418,7 +406,7 @@ class Batches(Base):
             line = line_of(sizes, order)
             keys = some_keys(choose, line, 8)
             conditions = [some_condition(choose, sizes, 1 + at % 4) for _ in range(1 + at % 8)]
-            needed = [needed_by_hand(line, keys, kept_on(line, condition)) for condition in conditions]
+            needed = [needed_on(line, keys, kept_on(line, condition)) for condition in conditions]
             together = {answer for answers in needed for answer in answers}
             found = batch([Diagram(sizes, order, condition) for condition in conditions], keys)
             self.assertEqual(found, (len(together), sum([len(answers) for answers in needed])))
@@ -438,7 +426,8 @@ class Batches(Base):
         other_order, other_sizes = example_diagram((0, 2, 1)), Diagram([10, 7, 99], all_up([0, 1, 2]), NO_KEYS)
         down = Diagram([10, 7, 100], [(0, True), (1, True), (2, False)], NO_KEYS)
         rows = [
-            [], [one] * 9, (one,), (one, one), one, [[one]], [(one,)], {"a": one}, None, 0, True, "", [None], [one, None],
+            [], [one] * 9, (one,), (one, one), one, [[one]], [(one,)], {"a": one}, None, 0, True, "", [None],
+            [one, None],
             [None, one], [one, 3], [one, [one]], [one, True], [one, "x"], [example()], [one, example()],
             [one, other_order], [other_order, one], [one, other_sizes], [one, one, one, other_sizes], [one, down],
             [one, Diagram([10, 7], all_up([0, 1]), NO_KEYS)],
@@ -456,7 +445,8 @@ class NoTables(Base):
     def calls(self, diagram, keys):
         return [
             (matches, (diagram, keys)), (needed_answers, (diagram, keys)), (shows_enough, (diagram, keys, [])),
-            (least_cost, (diagram, keys, 1)), (first_answers, (diagram, keys, (0, 0, 0), 1)), (batch, ([diagram], keys)),
+            (least_cost, (diagram, keys, 1)), (first_answers, (diagram, keys, (0, 0, 0), 1)),
+            (batch, ([diagram], keys)),
             (lambda *rest: list(questions(*rest)), (diagram, keys)),
         ]
 
@@ -470,7 +460,8 @@ class NoTables(Base):
             tuple(TABLE), TABLE + TABLE[:1], [(0, 0, 0), (0, 0, 0)], TABLE + [(10, 0, 0)], TABLE + [(0, 7, 0)],
             TABLE + [(0, 0, 100)], TABLE + [(0, 0, -1)], TABLE + [(0, 0)], TABLE + [(0, 0, 0, 0)], TABLE + [()],
             TABLE + [[0, 0, 0]], TABLE + [(True, 0, 0)], TABLE + [(0, False, 0)], TABLE + [None], TABLE + [TABLE],
-            [TABLE], {"a": TABLE}, None, 0, True, "", (), (3, 0, 21), [3, 0, 21], TABLE + ["key"], TABLE + [(0, 0, "0")],
+            [TABLE], {"a": TABLE}, None, 0, True, "", (), (3, 0, 21), [3, 0, 21], TABLE + ["key"],
+            TABLE + [(0, 0, "0")],
             TABLE + [(0, 0, None)], TABLE + [(0, 0, (0,))], TABLE + [(0, 0, [0])], example(), [example()],
         ]
         for keys in rows:
@@ -485,7 +476,8 @@ class NoTables(Base):
     def test_400_and_401_keys(self):
         line = line_of([10, 7, 100], all_up([0, 1, 2]))
         for many in (399, 400):
-            self.assertEqual(len(matches(Diagram([10, 7, 100], all_up([0, 1, 2]), ("not", NO_KEYS)), line[:many])), many)
+            self.assertEqual(len(matches(Diagram([10, 7, 100], all_up([0, 1, 2]), ("not", NO_KEYS)), line[:many])),
+                             many)
         for many in (401, 402, 4000):
             self.refused(line[:many])
 
@@ -546,7 +538,8 @@ class HowTheyAreCalled(Base):
     def test_new_lists_each_time(self):
         diagram = example_diagram()
         calls = (lambda: matches(diagram, TABLE), lambda: needed_answers(diagram, TABLE), lambda: worst_table(diagram),
-                 lambda: first_answers(diagram, TABLE, (0, 0, 0), None), lambda: first_answers(diagram, TABLE, (0, 0, 0), 0))
+                 lambda: first_answers(diagram, TABLE, (0, 0, 0), None),
+                 lambda: first_answers(diagram, TABLE, (0, 0, 0), 0))
         for call in calls:
             first = call()
             kept = list(first)
