@@ -68,14 +68,13 @@ class Store:
     def shows_answer(self, condition, wish, many, thing):
         """Whether any object is such a list."""
         found = self._matches(condition, wish, many)
-        wanted = len(found) if many is None else min(many, len(found))
-        if not are_keys(self._sizes, thing) or len(thing) != wanted or len(set(thing)) != wanted:
+        if not are_keys(self._sizes, thing) or len(set(thing)) != len(thing):
             return False
         if not all([key in found for key in thing]):
             return False
-        ranks = [rank_of(wish, key) for key in thing]
-        # In whatever way ties are broken, these are the ranks of the first matches.
-        return ranks == [rank_of(wish, key) for key in found[:wanted]]
+        first = found if many is None else found[:many]
+        # In whatever way ties are broken, the ranks are those of the first matches.
+        return [rank_of(wish, key) for key in thing] == [rank_of(wish, key) for key in first]
 
     def undo(self):
         """Undoes the last put or take."""

@@ -3,7 +3,7 @@ from itertools import combinations, product
 
 from brute import (HUGE, Base, Chooser, all_boxes, all_orders, all_up, condition_of, example, great_boxes, holds,
                    kept_on, line_of, odd_objects, position, rank, side_of, some_condition, some_order, some_orders,
-                   some_wish, spread, turned)
+                   some_wish, spread, stretches_of, turned)
 from scanranges import sorting
 from scanranges.boxes import Box
 from scanranges.diagrams import Diagram
@@ -85,6 +85,23 @@ class PairByPair(Base):
                 kept = [key for key in line_of([2, 2], order) if key in diagram]
                 for wish in wishes:
                     self.check(diagram, kept, wish)
+
+    def test_each_filter_of_three_values_and_three(self):
+        # What stands farther behind than the next value counts, too: 0,0 then 1,1 and 1,2 then 2,1.
+        rows = [[value for value in range(3) if bits[value]] for bits in product((0, 1), repeat=3)]
+        sides = []
+        for parts in product(rows, repeat=3):
+            condition = NO_KEYS
+            for value, row in enumerate(parts):
+                one = ("and", ("in", 0, [(value, value)]), ("in", 1, stretches_of(row)))
+                condition = ("or", condition, one)
+            for order in ([(0, True), (1, True)], [(0, False), (1, True)], [(1, False), (0, True)]):
+                diagram = Diagram([3, 3], order, condition)
+                kept = kept_on(line_of([3, 3], order), condition)
+                for wish in ([(1, True)], [(0, False)], [(1, False), (0, True)], [(0, True), (1, True)]):
+                    sides.append(self.check(diagram, kept, wish))
+        for side in ("forwards", "backwards", None):
+            self.assertGreater(sides.count(side), 300)
 
     def test_boxes(self):
         sides = []
